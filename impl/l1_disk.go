@@ -455,12 +455,20 @@ func DiskRead(d Disk, name string) Content {
 	if !DiskValid(d) {
 		return Content{}
 	}
-	for _, e := range d.Names {
-		if e.Name == name {
-			return Content{Found: true, Data: bytes.Clone(d.Nodes[e.Node].Data)}
-		}
+	data, found := dataOf(d, name)
+	return Content{Found: found, Data: bytes.Clone(data)}
+}
+
+// dataOf is for valid disks; it shows the disk's own bytes, which are not to be
+// written to or handed out.
+func dataOf(d Disk, name string) ([]byte, bool) {
+	at, found := slices.BinarySearchFunc(d.Names, name, func(e Entry, name string) int {
+		return cmp.Compare(e.Name, name)
+	})
+	if !found {
+		return nil, false
 	}
-	return Content{}
+	return d.Nodes[d.Names[at].Node].Data, true
 }
 
 func DiskCrash(d Disk, dirs int, picks []int) Disk {
@@ -468,7 +476,7 @@ func DiskCrash(d Disk, dirs int, picks []int) Disk {
 		return Disk{}
 	}
 	names := listingOf(d.Kept)
-	for _, op := range d.Pend[:min(max(dirs, 0), len(d.Pend))] {
+	for _, op := range firstOf(d.Pend, dirs) {
 		names.replay(op, len(d.Nodes))
 	}
 	after := Disk{Quota: d.Quota}
@@ -480,6 +488,11 @@ func DiskCrash(d Disk, dirs int, picks []int) Disk {
 	}
 	after.Kept = slices.Clone(after.Names)
 	return after
+}
+
+// firstOf takes any number: below 0 it is none, beyond the list's end all.
+func firstOf[T any](list []T, n int) []T {
+	return list[:min(max(n, 0), len(list))]
 }
 
 // looseKept is how many of its loose bytes, those behind Safe, the i-th entry
