@@ -13,8 +13,12 @@ import (
 // every way.
 var pieces = []string{"\n", ">", "From ", "From", " ", "x", "From mail\n", "\x00", "mail\n"}
 
-// eachText calls use with every text of up to most pieces.
 func eachText(most int, use func(text string)) {
+	eachTextOf(pieces, most, use)
+}
+
+// eachTextOf calls use with every text of up to most of the pieces.
+func eachTextOf(pieces []string, most int, use func(text string)) {
 	level := []string{""}
 	for n := 0; ; n++ {
 		for _, text := range level {
