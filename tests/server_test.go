@@ -194,7 +194,7 @@ func TestTheMostThatIsWritten(t *testing.T) {
 		{[]impl.Event{sent(0, "NOOP")}, replies("+OK")},
 		{[]impl.Event{sent(0, "STAT", "NOOP"), sent(0, "NOOP")}, replies("+OK 0 0")},
 		{[]impl.Event{sent(0, "LIST", "NOOP")}, replies("+OK", ".")},
-		{[]impl.Event{sent(0, "NOOP"), popOn(1 - 1)}, replies("+OK") + popGreeting},
+		{[]impl.Event{sent(0, "NOOP"), popOn(0)}, replies("+OK") + popGreeting},
 		{[]impl.Event{sent(0, "QUIT"), sent(0, "NOOP")}, replies("+OK bye")},
 		// A greeting is no unit; the first unit behind it closes again.
 		{[]impl.Event{sent(0, "NOOP"), imapOn(0), sent(0, "a NOOP", "b NOOP"), sent(0, "c NOOP")}, replies("+OK") + greeting(0, 1) + replies("a OK")},
@@ -272,7 +272,8 @@ func TestSpaceInSessions(t *testing.T) {
 	}
 }
 
-// The one request that finds no room for lack of mails is not counted.
+// A delivery that is one mail too many is refused in every form, and is no lack
+// of space.
 func TestFullMailboxesInSessions(t *testing.T) {
 	var events []impl.Event
 	for range impl.MaxMails {
